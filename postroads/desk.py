@@ -1,11 +1,16 @@
 """The desk: calls on one new map are read one behind another, and each is answered."""
 
 from postroads.changes import bar, begin, cost, need, reach, road
-from postroads.questions import blind, distance, order, tree
+from postroads.claims import apart, covers, frail, pays
+from postroads.plans import cheapest, least
+from postroads.questions import blind, distance, nearest, order, told, tree
 from postroads.roadmap import Roadmap
+from postroads.searches import few, radius
 
-# How many numbers stand behind the number that a call begins with.
-NUMBERS_BEHIND = {0: 2, 1: 3, 2: 2, 3: 2, 4: 2, 5: 1, 6: 2, 7: 0, 8: 0, 9: 0}
+# How many numbers stand behind the number that a call begins with, where it has no list.
+NUMBERS_BEHIND = {0: 2, 1: 3, 2: 2, 3: 2, 4: 2, 5: 1, 6: 2, 7: 0, 8: 0, 9: 0, 10: 0, 11: 0, 15: 1, 16: 1, 19: 0}
+WITH_A_LIST = (12, 13, 14, 17, 18)
+WITHOUT_NUMBERS = (7, 8, 9, 10, 11, 19)
 LAST_CHANGE = 5
 
 
@@ -14,9 +19,14 @@ def answers(calls):
     given = []
     at = 0
     while at < len(calls):
-        call = calls[at]
-        behind = at + 1 + NUMBERS_BEHIND[call]
-        answer = answer_to(roadmap, call, calls[at + 1:behind])
+        # A list has its count before it.
+        if calls[at] in WITH_A_LIST:
+            start = at + 2
+            behind = start + calls[at + 1]
+        else:
+            start = at + 1
+            behind = start + NUMBERS_BEHIND[calls[at]]
+        answer = answer_to(roadmap, calls[at], calls[start:behind])
         given.append(len(answer))
         given.extend(answer)
         at = behind
@@ -26,7 +36,11 @@ def answers(calls):
 def answer_to(roadmap, call, numbers):
     if call <= LAST_CHANGE:
         return answer_to_change(roadmap, call, numbers)
-    return answer_to_question(roadmap, call, numbers)
+    if call in WITH_A_LIST:
+        return answer_to_list(roadmap, call, numbers)
+    if call in WITHOUT_NUMBERS:
+        return answer_to_word(roadmap, call)
+    return answer_to_numbers(roadmap, call, numbers)
 
 
 def answer_to_change(roadmap, call, numbers):
@@ -43,11 +57,35 @@ def answer_to_change(roadmap, call, numbers):
     return reach(roadmap, numbers[0])
 
 
-def answer_to_question(roadmap, call, numbers):
-    if call == 6:
-        return distance(roadmap, numbers[0], numbers[1])
+def answer_to_list(roadmap, call, row):
+    if call == 12:
+        return covers(roadmap, row)
+    if call == 13:
+        return apart(roadmap, row)
+    if call == 14:
+        return pays(roadmap, row)
+    if call == 17:
+        return nearest(roadmap, row)
+    return frail(roadmap, row)
+
+
+def answer_to_word(roadmap, call):
     if call == 7:
         return tree(roadmap)
     if call == 8:
         return order(roadmap)
-    return blind(roadmap)
+    if call == 9:
+        return blind(roadmap)
+    if call == 10:
+        return least(roadmap)
+    if call == 11:
+        return cheapest(roadmap)
+    return told(roadmap)
+
+
+def answer_to_numbers(roadmap, call, numbers):
+    if call == 6:
+        return distance(roadmap, numbers[0], numbers[1])
+    if call == 15:
+        return few(roadmap, numbers[0])
+    return radius(roadmap, numbers[0])

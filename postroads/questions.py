@@ -1,6 +1,7 @@
-"""The calls that ask and change nothing."""
+"""The calls that ask what is on the map."""
 
-from postroads.refusals import OUT_OF_RANGE
+from postroads.forms import are_places, listed, maybe_a_number
+from postroads.refusals import LIST_NOT_AS_TOLD, OUT_OF_RANGE
 
 
 def distance(roadmap, a, b):
@@ -16,26 +17,36 @@ def tree(roadmap):
 
 
 def order(roadmap):
-    return listed(deepest_first(roadmap))
+    return listed(roadmap.deepest_first())
 
 
 def blind(roadmap):
-    return listed([v for v in roadmap.places_in_need() if not can_have_a_post(roadmap, v)])
+    return listed(roadmap.blind_places())
 
 
-def deepest_first(roadmap):
-    return sorted(roadmap.places_in_need(), key=lambda v: (-roadmap.depth(v), v))
+def nearest(roadmap, row):
+    if not are_places(roadmap, row):
+        return [LIST_NOT_AS_TOLD]
+    answer = []
+    for v in range(roadmap.size):
+        answer.extend(nearest_to(roadmap.distances[v], row))
+    return answer
 
 
-def can_have_a_post(roadmap, v):
-    return any([roadmap.barred[u] == 0 and roadmap.in_reach(u, v) for u in range(roadmap.size)])
+def nearest_to(distances, row):
+    joined = [u for u in row if distances[u] is not None]
+    if len(joined) == 0:
+        return [-1, 0]
+    # Of equally near ones min takes the first in the list.
+    near = min(joined, key=lambda u: distances[u])
+    return [near, distances[near]]
 
 
-def listed(numbers):
-    return [len(numbers)] + numbers
-
-
-def maybe_a_number(number):
-    if number is None:
-        return [0, 0]
-    return [1, number]
+def told(roadmap):
+    answer = [roadmap.reach, roadmap.size]
+    for v in range(roadmap.size):
+        answer.extend([roadmap.needs[v], roadmap.costs[v], roadmap.barred[v]])
+    answer.append(len(roadmap.roads))
+    for a, b, length in roadmap.roads:
+        answer.extend([a, b, length])
+    return answer

@@ -31,8 +31,7 @@ class Roadmap:
         self.distances = distances_with_road(self.distances, a, b, length)
 
     def in_reach(self, post, v):
-        far = self.distances[post][v]
-        return far is not None and far <= self.reach
+        return is_within(self.distances[post][v], self.reach)
 
     def depth(self, v):
         # The root is the least place with a distance, so its distance is the first that is there.
@@ -41,6 +40,22 @@ class Roadmap:
 
     def places_in_need(self):
         return [v for v in range(self.size) if self.needs[v] > 0]
+
+    def places_not_barred(self):
+        return [v for v in range(self.size) if self.barred[v] == 0]
+
+    def deepest_first(self):
+        return sorted(self.places_in_need(), key=lambda v: (-self.depth(v), v))
+
+    def blind_places(self):
+        return [v for v in self.places_in_need() if not self.can_have_a_post(v)]
+
+    def can_have_a_post(self, v):
+        return any([self.in_reach(post, v) for post in self.places_not_barred()])
+
+
+def is_within(far, reach):
+    return far is not None and far <= reach
 
 
 # Row u holds at v how far it is from u to v, or None if no roads lead there.

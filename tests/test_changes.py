@@ -6,8 +6,11 @@ from postroads.changes import begin, cost, need
 from postroads.roadmap import Roadmap
 from tests.helper import FAR_ABOVE, FAR_BELOW, replies, reply, sixty_roads
 
-# What can be seen of a map by the calls that are there: each question, with places 0 to 3.
-LOOK = [("distance", a, b) for a in range(4) for b in range(a, 4)] + [("tree",), ("order",), ("blind",)]
+# What can be seen of a map: each question, with places 0 to 3.
+LOOK = [("distance", a, b) for a in range(4) for b in range(a, 4)] + [
+    ("tree",), ("order",), ("blind",), ("least",), ("cheapest",), ("covers", [0, 1, 1, 2]), ("apart", [0, 2]),
+    ("pays", [0, 1]), ("few", 2), ("radius", 2), ("nearest", [3, 0]), ("frail", [0, 1, 3, 2]), ("told",),
+]
 
 
 class EveryRange(unittest.TestCase):
@@ -109,6 +112,10 @@ class RefusedChangesNothing(unittest.TestCase):
         ("need", 0, -1), ("need", 0, 1001), ("need", 4, 0), ("need", -1, 0),
         ("cost", 0, -1), ("cost", 4, 0), ("bar", 0, 2), ("bar", 0, -1), ("bar", 4, 1), ("bar", -1, 1),
         ("reach", -1), ("reach", 10 ** 12 + 1), ("distance", 0, 4), ("distance", -1, 0),
+        ("least",), ("cheapest",), ("covers", [0, 1, 4, 1]), ("covers", [0, 1, 0, 1]), ("covers", [0]),
+        ("covers", [2, 1]), ("apart", [0, 4]), ("apart", [1, 1]), ("pays", [0, -1]), ("pays", [1, 1]),
+        ("few", 4), ("few", -1), ("radius", 41), ("radius", -1), ("nearest", [4]), ("nearest", [0, 0]),
+        ("frail", [0, 10 ** 6 + 1]), ("frail", [0, 1, 2]),
     ]
 
     def test_each(self):
@@ -116,13 +123,18 @@ class RefusedChangesNothing(unittest.TestCase):
         for call in self.REFUSED:
             with self.subTest(call=call):
                 told = replies(*self.MAP, call, *LOOK)
+                self.assertEqual(len(told[len(self.MAP)]), 1)
                 self.assertLess(told[len(self.MAP)][0], 0)
                 self.assertEqual(told[-len(LOOK):], expected)
 
     def test_a_61st_road(self):
-        look = [("distance", 0, 30), ("distance", 30, 0), ("tree",), ("order",)]
+        look = [("distance", 0, 30), ("distance", 30, 0), ("tree",), ("order",), ("told",)]
         told = replies(*sixty_roads(), *look, ("road", 0, 30, 1), *look)
-        self.assertEqual(told[-4:], told[-9:-5])
+        self.assertEqual(told[-5:], told[-11:-6])
+
+    def test_a_refused_road_does_not_lead_round(self):
+        roads = [("road", 0, 1, 1), ("road", 1, 2, 1), ("road", 1, 0, 1), ("road", 2, 2, 1)]
+        self.assertEqual(reply(("begin", 3, 1), *roads, ("least",)), [1, 1, 1, 1, 1, 2])
 
     def test_a_refused_cost_is_not_kept(self):
         roadmap = Roadmap()

@@ -1,8 +1,8 @@
-"""distance, tree, order, blind."""
+"""distance, tree, order, blind, nearest, told."""
 
 import unittest
 
-from tests.helper import FAR_ABOVE, FAR_BELOW, replies, reply, ring
+from tests.helper import FAR_ABOVE, FAR_BELOW, line, replies, reply, ring, sixty_roads
 
 
 class Distance(unittest.TestCase):
@@ -183,6 +183,85 @@ class Blind(unittest.TestCase):
 
     def test_one_open_place_does_for_any_need(self):
         self.assertEqual(reply(("need", 0, 1000), ("blind",)), [0])
+
+
+class Nearest(unittest.TestCase):
+    """The lists that it refuses are tested beside those of apart."""
+
+    FIVE = [("begin", 5, 0), *line(2, 2, 3, 1)]
+
+    def nearest(self, calls, *row):
+        return reply(*calls, ("nearest", list(row)))
+
+    def test_one(self):
+        self.assertEqual(self.nearest(self.FIVE, 2), [2, 4, 2, 2, 2, 0, 2, 3, 2, 4])
+
+    def test_several(self):
+        self.assertEqual(self.nearest(self.FIVE, 0, 4), [0, 0, 0, 2, 0, 4, 4, 1, 4, 0])
+        self.assertEqual(self.nearest(self.FIVE, 4, 0), [0, 0, 0, 2, 4, 4, 4, 1, 4, 0])
+
+    def test_of_equally_near_ones_the_first_in_the_list(self):
+        star = [("begin", 4, 0), *[("road", 0, v, 5) for v in range(1, 4)]]
+        self.assertEqual(self.nearest(star, 3, 1), [3, 5, 1, 0, 3, 10, 3, 0])
+        self.assertEqual(self.nearest(star, 1, 3), [1, 5, 1, 0, 1, 10, 3, 0])
+        self.assertEqual(self.nearest(star, 2, 3, 1), [2, 5, 1, 0, 2, 0, 3, 0])
+
+    def test_a_nearer_one_later_in_the_list(self):
+        self.assertEqual(self.nearest(self.FIVE, 4, 3, 0, 1, 2), [0, 0, 1, 0, 2, 0, 3, 0, 4, 0])
+
+    def test_a_distance_to_none(self):
+        parts = [("begin", 5, 10 ** 12), ("road", 1, 3, 4)]
+        self.assertEqual(self.nearest(parts, 3), [-1, 0, 3, 4, -1, 0, 3, 0, -1, 0])
+        self.assertEqual(self.nearest(parts, 4, 1), [-1, 0, 1, 0, -1, 0, 1, 4, 4, 0])
+        self.assertEqual(self.nearest([], 1), [-1, 0, 1, 0])
+
+    def test_the_empty_list(self):
+        self.assertEqual(self.nearest([]), [-1, 0, -1, 0])
+        self.assertEqual(self.nearest([("begin", 40, 0)]), [-1, 0] * 40)
+
+    def test_where_roads_lead_round(self):
+        self.assertEqual(self.nearest([("begin", 5, 0), *ring(5)], 3, 0), [0, 0, 0, 1, 3, 1, 3, 0, 3, 1])
+
+    def test_the_reach_needs_and_bars_do_not_matter(self):
+        calls = [*self.FIVE, ("bar", 0, 1), ("need", 4, 0), ("reach", 1), ("cost", 0, 9)]
+        self.assertEqual(self.nearest(calls, 0, 4), self.nearest(self.FIVE, 0, 4))
+
+    def test_the_largest_map(self):
+        far = [("begin", 40, 0), *line(*[10 ** 9] * 39)]
+        told = [number for v in range(40) for number in (39, (39 - v) * 10 ** 9)]
+        self.assertEqual(self.nearest(far, 39), told)
+        self.assertEqual(self.nearest(far, *range(39, -1, -1)), [number for v in range(40) for number in (v, 0)])
+
+
+class Told(unittest.TestCase):
+
+    def test_before_any_other_call(self):
+        self.assertEqual(reply(("told",)), [0, 2, 1, 1, 0, 1, 1, 0, 0])
+
+    def test_everything(self):
+        calls = [("begin", 3, 8), ("need", 0, 0), ("cost", 1, 0), ("bar", 2, 1), ("need", 2, 1000),
+                 ("cost", 0, 10 ** 9), ("road", 2, 0, 7), ("road", 0, 1, 10 ** 9), ("reach", 10 ** 12), ("told",)]
+        self.assertEqual(reply(*calls), [10 ** 12, 3, 0, 10 ** 9, 0, 1, 0, 0, 1000, 1, 1, 2, 2, 0, 7, 0, 1, 10 ** 9])
+
+    def test_roads_in_the_order_in_which_they_came_and_as_told(self):
+        roads = [("road", 3, 2, 5), ("road", 0, 1, 9), ("road", 1, 0, 4), ("road", 3, 0, 1), ("road", 0, 2, 2)]
+        self.assertEqual(reply(("begin", 4, 0), *roads, ("told",))[14:],
+                         [4, 3, 2, 5, 0, 1, 9, 3, 0, 1, 0, 2, 2])
+
+    def test_the_most_roads(self):
+        told = reply(*sixty_roads(), ("told",))
+        self.assertEqual(told[:122], [0, 40] + [1, 1, 0] * 40)
+        roads = [number for call in sixty_roads()[1:] for number in call[1:]]
+        self.assertEqual(told[122:], [60] + roads)
+
+    def test_what_was_told_last(self):
+        calls = [("need", 0, 5), ("need", 0, 6), ("cost", 1, 7), ("cost", 1, 8), ("bar", 0, 1), ("bar", 1, 1),
+                 ("bar", 0, 0), ("reach", 3), ("reach", 4), ("told",)]
+        self.assertEqual(reply(*calls), [4, 2, 6, 1, 0, 1, 8, 1, 0])
+
+    def test_begin_starts_anew(self):
+        old = [("begin", 3, 8), ("need", 0, 4), ("cost", 1, 4), ("bar", 2, 1), ("road", 0, 1, 4)]
+        self.assertEqual(reply(*old, ("begin", 2, 5), ("told",)), [5, 2, 1, 1, 0, 1, 1, 0, 0])
 
 
 if __name__ == "__main__":
